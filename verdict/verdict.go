@@ -1,0 +1,50 @@
+// Package verdict tells what can be said of words without end: see DOC.md.
+package verdict
+
+import (
+	"verdict/api"
+	"verdict/formula"
+	"verdict/word"
+)
+
+// Size tells the size of a formula (P3).
+func Size(f string) (int, api.Errno) {
+	nodes, e := formula.Parse(f)
+	return len(nodes), e
+}
+
+// Holds tells whether a formula holds of a stem and a loop (P4).
+func Holds(f string, stem []int, loop []int) (bool, api.Errno) {
+	nodes, e := formula.Parse(f)
+	if e != api.OK {
+		return false, e
+	}
+	w, e := word.Join(stem, loop)
+	if e != api.OK {
+		return false, e
+	}
+	return w.Holds(nodes), api.OK
+}
+
+// Judge tells the verdict on a word (P5).
+func Judge(f string, u []int) (int, api.Errno) { return 0, api.OK }
+
+// Watch makes the machine of a formula (P6).
+func Watch(f string) (api.Machine, api.Errno) { return api.Machine{}, api.OK }
+
+// Write writes a machine as bytes (P7).
+func Write(m api.Machine) (string, api.Errno) { return "", api.OK }
+
+// Read reads a machine (P7).
+func Read(s string) (api.Machine, api.Errno) { return api.Machine{}, api.OK }
+
+// Run tells what a machine tells (P7).
+func Run(s string, u []int) (int, api.Errno) { return 0, api.OK }
+
+// Class tells of what kind a formula is (P8).
+func Class(f string) (api.Class, api.Errno) { return api.Class{}, api.OK }
+
+// Check looks for a path on which a formula does not hold (P9).
+func Check(g api.Graph, f string) (bool, []int, []int, api.Errno) {
+	return false, nil, nil, api.OK
+}
