@@ -180,3 +180,22 @@ func TestLaw(t *testing.T) {
 		}
 	}
 }
+
+func TestNodesThatWait(t *testing.T) {
+	for _, c := range []struct {
+		op           byte
+		waits, lasts bool
+		end          int
+	}{
+		{'0', false, false, 0}, {'1', false, false, 0}, {'p', false, false, 0}, {'!', false, false, 0}, {'X', false, false, 0}, {'&', false, false, 0}, {'|', false, false, 0},
+		{'F', true, false, 1}, {'G', true, true, 1}, {'U', true, false, 2}, {'R', true, true, 2},
+	} {
+		node := Node{Op: c.op, Left: 1, Right: 2}
+		if node.Waits() != c.waits || node.Lasts() != c.lasts {
+			t.Errorf("P5: %c waits: %v, lasts: %v", c.op, node.Waits(), node.Lasts())
+		}
+		if c.waits && node.End() != c.end {
+			t.Errorf("P5: the end of %c is %d", c.op, node.End())
+		}
+	}
+}

@@ -54,3 +54,16 @@ func Law(node Node, self int, letter int, here int, next int) bool {
 func (n Node) Lasts() bool {
 	return n.Op == 'G' || n.Op == 'R'
 }
+
+// Waits tells whether what a node says could be put off from place to place for ever.
+func (n Node) Waits() bool {
+	return n.Op == 'F' || n.Op == 'U' || n.Lasts()
+}
+
+// End is the number of the node at which a node that waits looks: F and U come true where it holds, G and R go wrong where it does not.
+func (n Node) End() int {
+	if n.Op == 'U' || n.Op == 'R' {
+		return n.Right
+	}
+	return n.Left
+}
