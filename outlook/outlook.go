@@ -19,6 +19,8 @@ type Group [Views]bool
 type Outlook struct {
 	// before has, by the letter at a place and the view at the next place, the view at the place: the laws leave no choice.
 	before [api.Letters][Views]View
+	// calm has, for each node that can be put off, the views in which it is not.
+	calm []Group
 	// living has the views that some endless word has at its first place.
 	living Group
 	// begin has those living views in which the whole formula holds.
@@ -33,12 +35,27 @@ func Look(nodes []formula.Node) Outlook {
 			o.before[letter][next] = before(nodes, letter, next)
 		}
 	}
-	o.living = o.findLiving(nodes)
+	for k, node := range nodes {
+		if node.Waits() {
+			calm := settled(node, k)
+			o.calm = append(o.calm, calm)
+		}
+	}
+	o.living = o.findLiving()
 	for view := range o.living {
 		holds := formula.Has(view, len(nodes)-1)
 		o.begin[view] = o.living[view] && holds
 	}
 	return o
+}
+
+func (o *Outlook) findLiving() Group {
+	w := anyWay()
+	lasting := o.lasting(w)
+	if len(lasting) == 0 {
+		return Group{}
+	}
+	return lasting[0]
 }
 
 func before(nodes []formula.Node, letter int, next int) View {

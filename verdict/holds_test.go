@@ -1,6 +1,7 @@
 package verdict_test
 
 import (
+	"slices"
 	"testing"
 
 	"verdict/api"
@@ -145,7 +146,8 @@ func words(length int) [][]int {
 	return l
 }
 
-func TestP4SmallFormulasOnShortWords(t *testing.T) {
+// small lists the formulas up to size 4 with p and q.
+func small() []string {
 	bySize := [][]string{nil, {"p", "q"}}
 	for size := 2; size <= 4; size++ {
 		var l []string
@@ -161,14 +163,17 @@ func TestP4SmallFormulasOnShortWords(t *testing.T) {
 		}
 		bySize = append(bySize, l)
 	}
+	return slices.Concat(bySize...)
+}
+
+func TestP4SmallFormulasOnShortWords(t *testing.T) {
+	fs := small()
 	for s := 0; s <= 2; s++ {
 		for _, stem := range words(s) {
 			for l := 1; l <= 2; l++ {
 				for _, loop := range words(l) {
-					for _, fs := range bySize {
-						for _, f := range fs {
-							compare(t, f, stem, loop)
-						}
+					for _, f := range fs {
+						compare(t, f, stem, loop)
 					}
 				}
 			}

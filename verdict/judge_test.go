@@ -97,21 +97,6 @@ func known(f string, u []int, stems, loops [][]int) int {
 }
 
 func TestP5SmallFormulasOnShortWords(t *testing.T) {
-	bySize := [][]string{nil, {"p", "q"}}
-	for size := 2; size <= 4; size++ {
-		var l []string
-		for _, f := range bySize[size-1] {
-			l = append(l, "!"+f, "X"+f, "F"+f, "G"+f)
-		}
-		for left := 1; left < size-1; left++ {
-			for _, f := range bySize[left] {
-				for _, g := range bySize[size-1-left] {
-					l = append(l, "("+f+"&"+g+")", "("+f+"|"+g+")", "("+f+"U"+g+")", "("+f+"R"+g+")")
-				}
-			}
-		}
-		bySize = append(bySize, l)
-	}
 	var short, ends [][]int
 	for length := 0; length <= 2; length++ {
 		short = append(short, words(length)...)
@@ -120,14 +105,12 @@ func TestP5SmallFormulasOnShortWords(t *testing.T) {
 		ends = append(ends, words(length)...)
 	}
 	loops := words(1)
-	for _, fs := range bySize {
-		for _, f := range fs {
-			for _, u := range short {
-				want := known(f, u, ends, loops)
-				v, e := verdict.Judge(f, u)
-				if v != want || e != api.OK {
-					t.Fatalf("P5: Judge(%q, %v) = %d, %d, want %d", f, u, v, e, want)
-				}
+	for _, f := range small() {
+		for _, u := range short {
+			want := known(f, u, ends, loops)
+			v, e := verdict.Judge(f, u)
+			if v != want || e != api.OK {
+				t.Fatalf("P5: Judge(%q, %v) = %d, %d, want %d", f, u, v, e, want)
 			}
 		}
 	}

@@ -90,7 +90,14 @@ func Run(s string, u []int) (int, api.Errno) {
 }
 
 // Class tells of what kind a formula is (P8).
-func Class(f string) (api.Class, api.Errno) { return api.Class{}, api.OK }
+func Class(f string) (api.Class, api.Errno) {
+	nodes, e := formula.Parse(f)
+	if e != api.OK {
+		return api.Class{}, e
+	}
+	o := outlook.Look(nodes)
+	return o.Class(), api.OK
+}
 
 // Check looks for a path on which a formula does not hold (P9).
 func Check(g api.Graph, f string) (bool, []int, []int, api.Errno) {
