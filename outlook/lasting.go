@@ -8,6 +8,11 @@ type stand struct {
 	view View
 }
 
+// in tells whether a stand is in the groups of the spots.
+func (at stand) in(groups []Group) bool {
+	return at.spot >= 0 && at.spot < len(groups) && groups[at.spot][at.view]
+}
+
 // settled has the views in which a node is not put off. F and U are put off where they hold and their end does not, G and R where they do not hold and their end does; the other way round, the laws leave no such view.
 func settled(node formula.Node, k int) Group {
 	calm := Group{}
@@ -49,25 +54,10 @@ func (o *Outlook) drop(w ways, groups []Group) []Group {
 	return left
 }
 
-// leads has for each spot the views from which one way or more lead to the goal. On the way to a goal among the views that are left lie only such views: whatever leads to one of them has been found with it.
+// leads has for each spot the views from which one way or more lead to the goal.
 func (o *Outlook) leads(w ways, goal []Group) []Group {
-	found := make([]Group, len(w.into))
-	reached := list(goal)
-	// It ends, since no view is found twice at a spot.
-	for i := 0; i < len(reached); i++ {
-		at := reached[i]
-		if at.spot >= len(w.into) {
-			continue
-		}
-		for _, s := range w.into[at.spot] {
-			earlier := o.before[s.letter][at.view]
-			if !found[s.from][earlier] {
-				found[s.from][earlier] = true
-				reached = append(reached, stand{spot: s.from, view: earlier})
-			}
-		}
-	}
-	return found
+	s := o.seek(w, goal)
+	return s.found
 }
 
 func list(groups []Group) []stand {
@@ -78,6 +68,15 @@ func list(groups []Group) []stand {
 				l = append(l, stand{spot: spot, view: View(view)})
 			}
 		}
+	}
+	return l
+}
+
+// only leaves of the groups one stand alone.
+func only(groups []Group, at stand) []Group {
+	l := make([]Group, len(groups))
+	if at.in(groups) {
+		l[at.spot][at.view] = true
 	}
 	return l
 }

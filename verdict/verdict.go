@@ -4,6 +4,7 @@ package verdict
 import (
 	"verdict/api"
 	"verdict/formula"
+	"verdict/graph"
 	"verdict/machine"
 	"verdict/outlook"
 	"verdict/word"
@@ -101,5 +102,15 @@ func Class(f string) (api.Class, api.Errno) {
 
 // Check looks for a path on which a formula does not hold (P9).
 func Check(g api.Graph, f string) (bool, []int, []int, api.Errno) {
-	return false, nil, nil, api.OK
+	plan, ok := graph.Take(g)
+	if !ok {
+		return false, nil, nil, api.ErrGraph
+	}
+	nodes, e := formula.Parse(f)
+	if e != api.OK {
+		return false, nil, nil, e
+	}
+	o := outlook.Look(nodes)
+	stem, loop, found := o.Path(plan)
+	return !found, stem, loop, api.OK
 }
